@@ -1,0 +1,1 @@
+"""Pickdepths: rows of letters told apart by nested picks of places."""

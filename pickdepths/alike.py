@@ -1,0 +1,77 @@
+"""Rows that are alike to a depth, the least depth that parts them, and the game of picks."""
+
+from pickdepths.checks import check_depth, check_rows
+from pickdepths.errors import InvalidNumber, InvalidPlace
+from pickdepths.kinds import Kinds
+
+
+def are_alike(row, other_row, depth):
+    """Tell whether two rows are alike to a depth."""
+    check_rows_and_depth(row, other_row, depth)
+    kinds = Kinds()
+    return kinds.number(row, depth) == kinds.number(other_row, depth)
+
+
+def parting_depth(row, other_row):
+    """Return the least depth to which two rows are not alike, None if they are equal."""
+    check_rows(row, other_row)
+    if row == other_row:
+        return None
+    kinds = Kinds()
+    depth = 0
+    # This ends: as many picks as the longer row has letters tell it from any other one.
+    while kinds.number(row, depth) == kinds.number(other_row, depth):
+        depth += 1
+    return depth
+
+
+def classes(rows, depth):
+    """Return the lists of the indices of rows that are alike to a depth."""
+    check_depth(depth)
+    kinds = Kinds()
+    indices = {}
+    for index, row in enumerate(rows):
+        number = kinds.number(row, depth)
+        indices.setdefault(number, []).append(index)
+    return list(indices.values())
+
+
+def answers(row, other_row, depth, place):
+    """Return the places of the other row that are good answers to a pick in the first row."""
+    check_rows_and_depth(row, other_row, depth)
+    if depth == 0:
+        raise InvalidNumber(depth)
+    if not 0 <= place < len(row):
+        raise InvalidPlace(place)
+    return good_answers_to(Kinds(), row, place, other_row, depth)
+
+
+def winning_picks(row, other_row, depth):
+    """Return the tuples (side, place) of the picks that have no good answer."""
+    check_rows_and_depth(row, other_row, depth)
+    if depth == 0:
+        return []
+    kinds = Kinds()
+    picks = []
+    for side, own, other in ((0, row, other_row), (1, other_row, row)):
+        for place in range(len(own)):
+            if not good_answers_to(kinds, own, place, other, depth):
+                picks.append((side, place))
+    return picks
+
+
+def good_answers_to(kinds, row, place, other_row, depth):
+    """Return the places of the other row after which the answering player can last."""
+    # One of the picks is this one, so what stands ahead and behind has to last for one less.
+    wanted = kinds.mark(row, place, depth - 1)
+    good = []
+    for other_place in range(len(other_row)):
+        if kinds.mark(other_row, other_place, depth - 1) == wanted:
+            good.append(other_place)
+    return good
+
+
+def check_rows_and_depth(row, other_row, depth):
+    """Raise an error for the first of two rows and a depth that is not as it must be."""
+    check_rows(row, other_row)
+    check_depth(depth)

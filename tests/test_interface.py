@@ -1,0 +1,55 @@
+"""The names, the arguments and the files that the document lists, and the README."""
+
+import doctest
+import inspect
+import unittest
+from pathlib import Path
+
+from pickdepths import alike, errors, questions
+from tests.reference import NAMES_OF_ERRORS
+
+TOP = Path(__file__).resolve().parent.parent
+
+FUNCTIONS = (
+    (alike, "are_alike", ["row", "other_row", "depth"]),
+    (alike, "parting_depth", ["row", "other_row"]),
+    (alike, "classes", ["rows", "depth"]),
+    (alike, "answers", ["row", "other_row", "depth", "place"]),
+    (alike, "winning_picks", ["row", "other_row", "depth"]),
+    (questions, "is_question", ["value"]),
+    (questions, "depth_of", ["question"]),
+    (questions, "letters_in", ["question"]),
+    (questions, "turned_question", ["question"]),
+)
+
+
+class InterfaceTest(unittest.TestCase):
+
+    def test_functions(self):
+        for module, name, arguments in FUNCTIONS:
+            with self.subTest(name=name):
+                function = getattr(module, name)
+                self.assertTrue(inspect.isfunction(function))
+                self.assertEqual(function.__module__, module.__name__)
+                told = inspect.signature(function).parameters.values()
+                self.assertEqual([part.name for part in told], arguments)
+                for part in told:
+                    self.assertIs(part.kind, inspect.Parameter.POSITIONAL_OR_KEYWORD)
+                    self.assertIs(part.default, inspect.Parameter.empty)
+
+    def test_classes_of_errors(self):
+        for name in ("PickError",) + NAMES_OF_ERRORS:
+            told = inspect.signature(getattr(errors, name)).parameters
+            self.assertEqual(list(told), ["value"])
+
+    def test_examples_of_the_readme(self):
+        # The fences are no part of what an example prints.
+        text = (TOP / "README.md").read_text(encoding="utf-8").replace("```", "")
+        examples = doctest.DocTestParser().get_doctest(text, {}, "README.md", "README.md", 0)
+        told = doctest.DocTestRunner().run(examples)
+        self.assertEqual(told.failed, 0)
+        self.assertGreater(told.attempted, 5)
+
+
+if __name__ == "__main__":
+    unittest.main()
