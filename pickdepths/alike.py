@@ -9,20 +9,13 @@ def are_alike(row, other_row, depth):
     """Tell whether two rows are alike to a depth."""
     check_rows_and_depth(row, other_row, depth)
     kinds = Kinds()
-    return kinds.number(row, depth) == kinds.number(other_row, depth)
+    return kinds.of_row(row, depth) == kinds.of_row(other_row, depth)
 
 
 def parting_depth(row, other_row):
     """Return the least depth to which two rows are not alike, None if they are equal."""
     check_rows(row, other_row)
-    if row == other_row:
-        return None
-    kinds = Kinds()
-    depth = 0
-    # This ends: as many picks as the longer row has letters tell it from any other one.
-    while kinds.number(row, depth) == kinds.number(other_row, depth):
-        depth += 1
-    return depth
+    return depth_between(Kinds(), row, other_row)
 
 
 def classes(rows, depth):
@@ -31,8 +24,8 @@ def classes(rows, depth):
     kinds = Kinds()
     indices = {}
     for index, row in enumerate(rows):
-        number = kinds.number(row, depth)
-        indices.setdefault(number, []).append(index)
+        kind = kinds.of_row(row, depth)
+        indices.setdefault(kind, []).append(index)
     return list(indices.values())
 
 
@@ -51,24 +44,39 @@ def winning_picks(row, other_row, depth):
     check_rows_and_depth(row, other_row, depth)
     if depth == 0:
         return []
-    kinds = Kinds()
+    return picks_without_answer(Kinds(), row, other_row, depth)
+
+
+def depth_between(kinds, row, other_row):
+    """Return the least depth to which two rows are not alike, None if they are equal."""
+    if row == other_row:
+        return None
+    depth = 0
+    # This ends: as many picks as the longer row has letters tell it from any other one.
+    while kinds.of_row(row, depth) == kinds.of_row(other_row, depth):
+        depth += 1
+    return depth
+
+
+def good_answers_to(kinds, row, place, other_row, depth):
+    """Return the places of the other row after which the answering player can last."""
+    # One of the picks is this one, so what stands ahead and behind has to last for one less.
+    wanted = kinds.places(row, depth - 1)[place]
+    good = []
+    for other_place, mark in enumerate(kinds.places(other_row, depth - 1)):
+        if mark == wanted:
+            good.append(other_place)
+    return good
+
+
+def picks_without_answer(kinds, row, other_row, depth):
+    """Return the tuples (side, place) of the picks in two rows that have no good answer."""
     picks = []
     for side, own, other in ((0, row, other_row), (1, other_row, row)):
         for place in range(len(own)):
             if not good_answers_to(kinds, own, place, other, depth):
                 picks.append((side, place))
     return picks
-
-
-def good_answers_to(kinds, row, place, other_row, depth):
-    """Return the places of the other row after which the answering player can last."""
-    # One of the picks is this one, so what stands ahead and behind has to last for one less.
-    wanted = kinds.mark(row, place, depth - 1)
-    good = []
-    for other_place in range(len(other_row)):
-        if kinds.mark(other_row, other_place, depth - 1) == wanted:
-            good.append(other_place)
-    return good
 
 
 def check_rows_and_depth(row, other_row, depth):

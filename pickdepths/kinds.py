@@ -2,32 +2,96 @@
 
 
 class Kinds:
-    """Gives numbers to rows. Only numbers to one depth, and of one object, can be compared."""
+    """Gives numbers to the kinds of rows to all depths. Only numbers of one object can be compared.
+
+    To the depth 0 there is one kind, with the number 0. Each other kind is told by its marks, the
+    unlike tuples (kind ahead, letter, kind behind) of the places of a row, to one depth less.
+    """
 
     def __init__(self):
-        self.known = {}
         self.numbers = {}
+        self.marks = [()]
+        self.depths = [0]
+        self.lesser_kinds = {0: 0}
+        self.longer_behind = {}
+        self.longer_ahead = {}
 
-    def number(self, row, depth):
-        """Return the number of the kind of a row to a depth."""
+    def of_row(self, row, depth):
+        """Return the kind of a row to a depth."""
         if depth == 0:
             return 0
-        key = (row, depth)
-        if key not in self.known:
-            marks = self.marks(row, depth - 1)
-            # The same marks get the same number again, whichever row has them.
-            self.known[key] = self.numbers.setdefault(marks, len(self.numbers))
-        return self.known[key]
-
-    def marks(self, row, depth):
-        """Return the unlike marks of the places of a row, in a fixed sequence."""
         found = set()
-        for place in range(len(row)):
-            found.add(self.mark(row, place, depth))
-        return tuple(sorted(found))
+        for mark in self.places(row, depth - 1):
+            found.add(mark)
+        return self.numbered(depth, tuple(sorted(found)))
 
-    def mark(self, row, place, depth):
-        """Return the letter at a place, and the kinds to a depth of what stands ahead and behind."""
-        ahead = self.number(row[:place], depth)
-        behind = self.number(row[place + 1:], depth)
-        return (row[place], ahead, behind)
+    def places(self, row, depth):
+        """Return the list of the marks of the places of a row, with kinds to a depth."""
+        behind = self.empty(depth)
+        kinds_behind = []
+        for letter in row[::-1]:
+            kinds_behind.append(behind)
+            behind = self.added_ahead(letter, behind)
+        ahead = self.empty(depth)
+        marks = []
+        for letter in row:
+            marks.append((ahead, letter, kinds_behind.pop()))
+            ahead = self.added_behind(ahead, letter)
+        return marks
+
+    def empty(self, depth):
+        """Return the kind of the empty row to a depth."""
+        return self.numbered(depth, ())
+
+    def numbered(self, depth, marks):
+        """Return the kind to a depth with these marks, ascending; it is new if none had them yet."""
+        # To the depth 0 all rows are alike, whatever their marks.
+        if depth == 0:
+            return 0
+        key = (depth, marks)
+        if key not in self.numbers:
+            self.numbers[key] = len(self.marks)
+            self.marks.append(marks)
+            self.depths.append(depth)
+        return self.numbers[key]
+
+    def lesser(self, kind):
+        """Return the kind to one depth less of the rows of a kind."""
+        if kind not in self.lesser_kinds:
+            depth = self.depths[kind] - 1
+            marks = self.marks[kind]
+            found = set()
+            for ahead, letter, behind in marks:
+                found.add((self.lesser(ahead), letter, self.lesser(behind)))
+            self.lesser_kinds[kind] = self.numbered(depth, tuple(sorted(found)))
+        return self.lesser_kinds[kind]
+
+    def added_behind(self, kind, letter):
+        """Return the kind of the rows of a kind with a letter behind them, to the same depth."""
+        if kind == 0:
+            return 0
+        key = (kind, letter)
+        if key not in self.longer_behind:
+            depth = self.depths[kind]
+            marks = self.marks[kind]
+            found = set()
+            for ahead, sign, behind in marks:
+                found.add((ahead, sign, self.added_behind(behind, letter)))
+            found.add((self.lesser(kind), letter, self.empty(depth - 1)))
+            self.longer_behind[key] = self.numbered(depth, tuple(sorted(found)))
+        return self.longer_behind[key]
+
+    def added_ahead(self, letter, kind):
+        """Return the kind of the rows of a kind with a letter ahead of them, to the same depth."""
+        if kind == 0:
+            return 0
+        key = (letter, kind)
+        if key not in self.longer_ahead:
+            depth = self.depths[kind]
+            marks = self.marks[kind]
+            found = set()
+            for ahead, sign, behind in marks:
+                found.add((self.added_ahead(letter, ahead), sign, behind))
+            found.add((self.empty(depth - 1), letter, self.lesser(kind)))
+            self.longer_ahead[key] = self.numbered(depth, tuple(sorted(found)))
+        return self.longer_ahead[key]

@@ -2,7 +2,7 @@
 
 import unittest
 
-from pickdepths.errors import InvalidRow
+from pickdepths.errors import InvalidQuestion, InvalidRow
 
 # Rows with a sign that is no letter from a to z, and the index of the first one.
 BAD_ROWS = (
@@ -14,7 +14,7 @@ BAD_ROWS = (
 
 class CheckingCase(unittest.TestCase):
 
-    def assert_raises_exactly(self, error_class, value, function, *args, **named):
+    def assert_raises_exactly(self, error_class, value, function, /, *args, **named):
         """The call raises an error of this very class, with this value."""
         with self.assertRaises(error_class) as caught:
             function(*args, **named)
@@ -31,6 +31,17 @@ class CheckingCase(unittest.TestCase):
                 self.assert_raises_exactly(InvalidRow, index, function, bad, bad, *rest)
         self.assert_raises_exactly(InvalidRow, 2, function, "ab3", "A", *rest)
         self.assert_raises_exactly(InvalidRow, 0, function, "A", "ab3", *rest)
+
+    def assert_checks_row(self, function, bad, index, *rest):
+        """A function of a row and other things has the Row check of the row ahead of all else."""
+        self.assert_raises_exactly(InvalidRow, index, function, bad, *rest)
+
+    def assert_no_question(self, wrong, function, /, *args, **named):
+        """The call raises InvalidQuestion with the very value that is wrong."""
+        with self.assertRaises(InvalidQuestion) as caught:
+            function(*args, **named)
+        self.assertIs(type(caught.exception), InvalidQuestion)
+        self.assertIs(caught.exception.value, wrong)
 
     def assert_list_of_integers(self, value):
         self.assertIs(type(value), list)

@@ -199,3 +199,74 @@ def nots(many, question=ANY):
     for _ in range(many):
         question = ("not", question)
     return question
+
+
+@lru_cache(maxsize=None)
+def kind(row, depth):
+    """Point 6 once more: rows are alike to a depth exactly if they have equal kinds."""
+    if depth == 0:
+        return None
+    return frozenset(
+        (kind(row[:at], depth - 1), row[at], kind(row[at + 1:], depth - 1))
+        for at in range(len(row)))
+
+
+def least_rows(letters, depth, most):
+    """The least one of each kind among all rows with at most so many letters, ascending."""
+    found = {}
+    for row in short_rows(letters, most):
+        found.setdefault(kind(row, depth), row)
+    return list(found.values())
+
+
+def written_out(blocks):
+    """The row that blocks stand for, with all its times."""
+    return "".join(
+        (part if isinstance(part, str) else written_out(part)) * times for part, times in blocks)
+
+
+def places(row, question):
+    """Point 5: the places at which a question "some" is met."""
+    return [
+        at for at in range(len(row))
+        if row[at] == question[2] and lets(row[:at], question[1]) and lets(row[at + 1:], question[3])
+    ]
+
+
+def drawn_question(drawn, letters, depth, parts):
+    """A question of at most a depth and about so many parts, drawn."""
+    if parts < 3 or depth == 0:
+        return drawn.choice([ANY, ANY, ("not", ANY)])
+    word = drawn.choice(["not", "both", "some", "some", "some"])
+    if word == "not":
+        return ("not", drawn_question(drawn, letters, depth, parts - 1))
+    if word == "both":
+        return ("both", drawn_question(drawn, letters, depth, parts // 2),
+                drawn_question(drawn, letters, depth, parts // 2))
+    return some(drawn_question(drawn, letters, depth - 1, parts // 2), drawn.choice(letters),
+                drawn_question(drawn, letters, depth - 1, parts // 2))
+
+
+def drawn_row(drawn, letters, most):
+    return "".join(drawn.choice(letters) for _ in range(drawn.randint(0, most)))
+
+
+def at_least(many, letter):
+    """A question of the least depth that asks for so many of a letter or more."""
+    if many == 0:
+        return ANY
+    ahead = (many - 1) // 2
+    return some(at_least(ahead, letter), letter, at_least(many - 1 - ahead, letter))
+
+
+def none_of(letters):
+    """A question that asks for a row without these letters."""
+    return both_of_all([("not", some(ANY, letter, ANY)) for letter in letters])
+
+
+def either(question, other):
+    return ("not", ("both", ("not", question), ("not", other)))
+
+
+def count_parts(question):
+    return 1 + sum(count_parts(part) for part in question if isinstance(part, tuple))

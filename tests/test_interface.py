@@ -5,7 +5,7 @@ import inspect
 import unittest
 from pathlib import Path
 
-from pickdepths import alike, errors, questions
+from pickdepths import alike, asking, deciding, errors, questions, repeats, scopes
 from tests.reference import NAMES_OF_ERRORS
 
 TOP = Path(__file__).resolve().parent.parent
@@ -20,6 +20,19 @@ FUNCTIONS = (
     (questions, "depth_of", ["question"]),
     (questions, "letters_in", ["question"]),
     (questions, "turned_question", ["question"]),
+    (asking, "lets", ["row", "question"]),
+    (asking, "places_of", ["row", "question"]),
+    (asking, "parting_question", ["row", "other_row"]),
+    (repeats, "far_alike", ["blocks", "other_blocks", "depth"]),
+    (repeats, "far_lets", ["blocks", "question"]),
+    (repeats, "settled", ["row", "depth"]),
+    (scopes, "kind_count", ["many", "depth"]),
+    (scopes, "least_rows", ["many", "depth"]),
+    (scopes, "least_alike", ["row", "many", "depth"]),
+    (deciding, "least_row", ["question", "many"]),
+    (deciding, "are_equal", ["question", "other_question", "many"]),
+    (deciding, "parting_row", ["question", "other_question", "many"]),
+    (deciding, "follows", ["question", "other_question", "many"]),
 )
 
 
@@ -48,7 +61,7 @@ class InterfaceTest(unittest.TestCase):
         examples = doctest.DocTestParser().get_doctest(text, {}, "README.md", "README.md", 0)
         told = doctest.DocTestRunner().run(examples)
         self.assertEqual(told.failed, 0)
-        self.assertGreater(told.attempted, 5)
+        self.assertGreater(told.attempted, 20)
 
 
 if __name__ == "__main__":
