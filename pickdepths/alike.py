@@ -8,8 +8,7 @@ from pickdepths.kinds import Kinds
 def are_alike(row, other_row, depth):
     """Tell whether two rows are alike to a depth."""
     check_rows_and_depth(row, other_row, depth)
-    kinds = Kinds()
-    return kinds.of_row(row, depth) == kinds.of_row(other_row, depth)
+    return Kinds().alike(row, other_row, depth)
 
 
 def parting_depth(row, other_row):
@@ -22,10 +21,15 @@ def classes(rows, depth):
     """Return the lists of the indices of rows that are alike to a depth."""
     check_depth(depth)
     kinds = Kinds()
+    first_ones = []
     indices = {}
     for index, row in enumerate(rows):
-        kind = kinds.of_row(row, depth)
-        indices.setdefault(kind, []).append(index)
+        first = first_alike(kinds, rows, first_ones, row, depth)
+        if first is None:
+            first_ones.append(index)
+            indices[index] = [index]
+        else:
+            indices[first].append(index)
     return list(indices.values())
 
 
@@ -58,15 +62,39 @@ def depth_between(kinds, row, other_row):
     return depth
 
 
+def first_alike(kinds, rows, indices, row, depth):
+    """Return the first one of the indices of rows at which a row stands that is alike, or None."""
+    for index in indices:
+        if kinds.alike(rows[index], row, depth):
+            return index
+    return None
+
+
 def good_answers_to(kinds, row, place, other_row, depth):
     """Return the places of the other row after which the answering player can last."""
-    # One of the picks is this one, so what stands ahead and behind has to last for one less.
-    wanted = kinds.places(row, depth - 1)[place]
+    left = list(range(len(other_row)))
+    lesser_depth = 0
+    # All places are told apart at once to lesser depths, until few are left to be looked at.
+    while len(left) > 1 and lesser_depth < depth - 1:
+        wanted = kinds.places(row, lesser_depth)[place]
+        marks = kinds.places(other_row, lesser_depth)
+        left = [at for at in left if marks[at] == wanted]
+        lesser_depth += 1
     good = []
-    for other_place, mark in enumerate(kinds.places(other_row, depth - 1)):
-        if mark == wanted:
+    for other_place in left:
+        if is_good_answer(kinds, row, place, other_row, other_place, depth):
             good.append(other_place)
     return good
+
+
+def is_good_answer(kinds, row, place, other_row, other_place, depth):
+    """Tell whether the answering player can last after a pick and an answer."""
+    if row[place] != other_row[other_place]:
+        return False
+    # One of the picks is this one, so what stands ahead and behind has to last for one less.
+    if not kinds.alike(row[:place], other_row[:other_place], depth - 1):
+        return False
+    return kinds.alike(row[place + 1:], other_row[other_place + 1:], depth - 1)
 
 
 def picks_without_answer(kinds, row, other_row, depth):

@@ -9,6 +9,8 @@ class Kinds:
     """
 
     def __init__(self):
+        self.known_kinds = {}
+        self.known_places = {}
         self.numbers = {}
         self.marks = [()]
         self.depths = [0]
@@ -16,17 +18,37 @@ class Kinds:
         self.longer_behind = {}
         self.longer_ahead = {}
 
+    def alike(self, row, other_row, depth):
+        """Tell whether two rows are alike to a depth."""
+        if row == other_row:
+            return True
+        # Most rows part at a small depth if they do, which takes far less time than a great one.
+        for lesser_depth in range(1, depth + 1):
+            if self.of_row(row, lesser_depth) != self.of_row(other_row, lesser_depth):
+                return False
+        return True
+
     def of_row(self, row, depth):
         """Return the kind of a row to a depth."""
         if depth == 0:
             return 0
-        found = set()
-        for mark in self.places(row, depth - 1):
-            found.add(mark)
-        return self.numbered(depth, tuple(sorted(found)))
+        key = (row, depth)
+        if key not in self.known_kinds:
+            marks = self.places(row, depth - 1)
+            self.known_kinds[key] = self.numbered(depth, tuple(sorted(set(marks))))
+        return self.known_kinds[key]
 
     def places(self, row, depth):
         """Return the list of the marks of the places of a row, with kinds to a depth."""
+        key = (row, depth)
+        if key not in self.known_places:
+            self.known_places[key] = self.marks_of_places(row, depth)
+        return self.known_places[key]
+
+    def marks_of_places(self, row, depth):
+        """Return the marks of the places of a row, found from both ends of the row."""
+        if depth == 0:
+            return [(0, letter, 0) for letter in row]
         behind = self.empty(depth)
         kinds_behind = []
         for letter in row[::-1]:

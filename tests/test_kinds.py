@@ -20,6 +20,14 @@ class KindsTest(unittest.TestCase):
                                  kinds.of_row(row, depth))
             self.assertEqual(len(set(numbers.values())), len(numbers))
 
+    def test_alike(self):
+        kinds = Kinds()
+        rows = short_rows("ab", 4) + ["c", "cab"]
+        for depth in range(4):
+            for row in rows:
+                for other in rows:
+                    self.assertIs(kinds.alike(row, other, depth), reference.alike(row, other, depth))
+
     def test_a_letter_more(self):
         kinds = Kinds()
         for depth in range(4):

@@ -1,8 +1,9 @@
 """The picks of the game: those that win, and the answers with which one can last."""
 
 import unittest
+from random import Random
 
-from pickdepths.alike import answers, are_alike, winning_picks
+from pickdepths.alike import answers, are_alike, classes, parting_depth, winning_picks
 from pickdepths.errors import InvalidNumber, InvalidPlace, InvalidRow
 from tests import reference
 from tests.checking import CheckingCase
@@ -174,6 +175,58 @@ class WinningPicksTest(CheckingCase):
         for depth in (-1, -100):
             self.assert_raises_exactly(InvalidNumber, depth, winning_picks, "ab", "ba", depth)
             self.assert_raises_exactly(InvalidNumber, depth, winning_picks, "", "", depth)
+
+
+def long_rows():
+    """Rows of about forty letters: drawn ones, repeated ones, and each with two letters exchanged."""
+    drawn = Random(71)
+    rows = [FORTY, TURNS, "abc" * 13, "abcd" * 10, "aab" * 13, "b" + FORTY[1:]]
+    for letters in ("ab", "abc", "abcdefghijklmnopqrstuvwxyz"):
+        rows.append("".join(drawn.choice(letters) for _ in range(40)))
+    pairs = []
+    for row in rows:
+        at = drawn.randint(1, len(row) - 2)
+        exchanged = row[:at] + row[at + 1] + row[at] + row[at + 2:]
+        pairs += [(row, row), (row, exchanged), (row, row[1:]), (row, row[:20] + row[21:])]
+    return pairs
+
+
+class LongRowsTest(CheckingCase):
+
+    def test_by_the_words_of_point_6(self):
+        for row, other in long_rows():
+            for depth in range(4):
+                told = reference.kind(row, depth) == reference.kind(other, depth)
+                self.assertIs(are_alike(row, other, depth), told)
+                self.assertEqual(classes([row, other], depth), [[0, 1]] if told else [[0], [1]])
+
+    def test_answers_by_the_words_of_point_6(self):
+        for row, other in long_rows():
+            for depth in (1, 2, 3):
+                around = [(other[at], reference.kind(other[:at], depth - 1),
+                           reference.kind(other[at + 1:], depth - 1)) for at in range(len(other))]
+                for place in range(0, len(row), 5):
+                    wanted = (row[place], reference.kind(row[:place], depth - 1),
+                              reference.kind(row[place + 1:], depth - 1))
+                    good = [at for at, told in enumerate(around) if told == wanted]
+                    self.assertEqual(answers(row, other, depth, place), good)
+
+    def test_all_functions_tell_the_same(self):
+        for row, other in long_rows():
+            least = parting_depth(row, other)
+            for depth in (1, 3, 4, 5, 6):
+                alike = least is None or least > depth
+                self.assertIs(are_alike(row, other, depth), alike)
+                self.assertEqual(classes([row, other, row], depth), [[0, 1, 2]] if alike else [[0, 2], [1]])
+                picks = winning_picks(row, other, depth)
+                self.assertIs(picks == [], alike)
+                for place in range(0, len(row), 7):
+                    good = answers(row, other, depth, place)
+                    self.assertIs(good == [], (0, place) in picks)
+                    for at in range(len(other)):
+                        told = (row[place] == other[at] and are_alike(row[:place], other[:at], depth - 1)
+                                and are_alike(row[place + 1:], other[at + 1:], depth - 1))
+                        self.assertIs(told, at in good)
 
 
 if __name__ == "__main__":
