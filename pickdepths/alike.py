@@ -1,6 +1,6 @@
 """Rows that are alike to a depth, the least depth that parts them, and the game of picks."""
 
-from pickdepths.checks import check_depth, check_rows
+from pickdepths.checks import check_not_negative, check_rows
 from pickdepths.errors import InvalidNumber, InvalidPlace
 from pickdepths.kinds import Kinds
 
@@ -19,7 +19,7 @@ def parting_depth(row, other_row):
 
 def classes(rows, depth):
     """Return the lists of the indices of rows that are alike to a depth."""
-    check_depth(depth)
+    check_not_negative(depth)
     kinds = Kinds()
     first_ones = []
     indices = {}
@@ -110,4 +110,4 @@ def picks_without_answer(kinds, row, other_row, depth):
 def check_rows_and_depth(row, other_row, depth):
     """Raise an error for the first of two rows and a depth that is not as it must be."""
     check_rows(row, other_row)
-    check_depth(depth)
+    check_not_negative(depth)

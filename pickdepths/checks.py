@@ -1,4 +1,4 @@
-"""Checks of the rows and depths that callers pass."""
+"""Checks of the rows and numbers that callers pass."""
 
 from pickdepths.errors import InvalidNumber, InvalidRow
 
@@ -21,7 +21,7 @@ def check_rows(row, other_row):
     check_row(other_row)
 
 
-def check_depth(depth):
-    """Raise an error for a negative depth."""
-    if depth < 0:
-        raise InvalidNumber(depth)
+def check_not_negative(number):
+    """Raise an error for a negative depth, length or number of picks."""
+    if number < 0:
+        raise InvalidNumber(number)

@@ -1,6 +1,6 @@
 """Rows that are repeated, also very many times, one within another."""
 
-from pickdepths.checks import check_depth, check_row
+from pickdepths.checks import check_not_negative, check_row
 from pickdepths.errors import InvalidBlocks, InvalidNumber
 from pickdepths.kinds import Kinds
 from pickdepths.questions import depth_of
@@ -14,7 +14,7 @@ def far_alike(blocks, other_blocks, depth):
     """Tell whether two far rows are alike to a depth."""
     check_blocks(blocks)
     check_blocks(other_blocks)
-    check_depth(depth)
+    check_not_negative(depth)
     kinds = Kinds()
     times = enough_times(depth)
     kind = kinds.of_row(written_out(blocks, times), depth)
@@ -34,7 +34,7 @@ def far_lets(blocks, question):
 def settled(row, depth):
     """Return the least number of times from which on all repeats of a row are alike to a depth."""
     check_row(row)
-    check_depth(depth)
+    check_not_negative(depth)
     kinds = Kinds()
     times = 0
     # Once one more time changes nothing, no number of further times does.

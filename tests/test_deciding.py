@@ -1,7 +1,6 @@
 """Questions decided for all rows of few letters, held against a walk through all short ones."""
 
 import unittest
-from random import Random
 
 from pickdepths.asking import lets
 from pickdepths.deciding import are_equal, follows, least_row, parting_row
@@ -10,38 +9,13 @@ from pickdepths.questions import depth_of
 from tests import reference
 from tests.checking import CheckingCase
 from tests.reference import (
-    ANY, ONE_A, ONE_B, TWO, at_least, count_parts, drawn_question, either, none_of, nots, short_rows,
-    some)
+    ANY, ONE_A, ONE_B, TWO, at_least, count_parts, either, none_of, nots, short_rows, some)
+from tests.scoped import INSIDE, NO_QUESTIONS, ONE_C, ONE_D, OUTSIDE, drawn_questions
 
 BACK = some(ANY, "a", ONE_A)
-ONE_C, ONE_D = some(ANY, "c", ANY), some(ANY, "d", ANY)
 # How many letters the least rows of the greatest scope have at most, for each number of letters.
 MOST = {1: 15, 2: 8, 3: 3, 4: 4}
-DEPTHS = {1: 4, 2: 2, 3: 1, 4: 1}
-NO_QUESTIONS = (None, 0, True, "any", [], (), ["any"], ("any", ANY), ("some", "a"), ("not", None),
-                some(ANY, "A", ANY), some(ANY, "ab", ANY), ("both", ONE_A, ["any"]), ("both", ANY))
 OF_TWO = (are_equal, parting_row, follows)
-
-# Questions, and a number of letters, that lie in no scope; with the depth of the error.
-OUTSIDE = (
-    (ANY, 0, 0), (ANY, 5, 0), (ANY, -1, 0), (ANY, 100, 0), (ANY, -100, 0), (nots(3), 5, 0),
-    (ONE_A, 0, 1), (ONE_A, 5, 1), (ONE_A, -3, 1), (TWO, 3, 2), (TWO, 4, 2), (TWO, 5, 2), (TWO, 0, 2),
-    (at_least(5, "a"), 2, 3), (at_least(8, "a"), 2, 4), (at_least(16, "a"), 1, 5), (at_least(5, "a"), 3, 3),
-    (at_least(40, "a"), 1, 6), (at_least(40, "a"), 0, 6),
-    (ONE_B, 1, 1), (("not", ONE_B), 1, 1), (ONE_C, 2, 1), (ONE_C, 1, 1), (ONE_D, 3, 1), (ONE_D, 2, 1),
-    (some(ANY, "e", ANY), 4, 1), (some(ANY, "z", ANY), 1, 1), (some(ANY, "z", ANY), 4, 1),
-    (("both", ONE_A, ONE_B), 1, 1), (some(ONE_B, "a", ANY), 1, 2), (some(ANY, "a", ONE_C), 2, 2),
-    (some(("not", ONE_C), "a", ANY), 2, 2), (("both", ANY, ("not", ("both", ONE_D, ANY))), 3, 1),
-)
-INSIDE = ((ANY, 1), (ANY, 2), (ANY, 3), (ANY, 4), (ONE_A, 1), (ONE_B, 2), (ONE_C, 3), (ONE_D, 4),
-          (ONE_C, 4), (TWO, 1), (TWO, 2), (at_least(4, "a"), 1), (at_least(15, "a"), 1))
-
-
-def drawn_questions(many):
-    drawn = Random(60 + many)
-    letters, depth = "abcd"[:many], DEPTHS[many]
-    return [drawn_question(drawn, letters, drawn.randint(0, depth), drawn.randint(3, 60))
-            for _ in range(60)]
 
 
 def rows_let(question, many):

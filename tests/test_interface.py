@@ -5,7 +5,9 @@ import inspect
 import unittest
 from pathlib import Path
 
-from pickdepths import alike, asking, deciding, errors, questions, repeats, scopes
+from pickdepths import (
+    alike, asking, counting, deciding, errors, games, questions, readings, repeats, scopes, texts)
+from pickdepths.games import EagerGame, Game
 from tests.reference import NAMES_OF_ERRORS
 
 TOP = Path(__file__).resolve().parent.parent
@@ -33,6 +35,18 @@ FUNCTIONS = (
     (deciding, "are_equal", ["question", "other_question", "many"]),
     (deciding, "parting_row", ["question", "other_question", "many"]),
     (deciding, "follows", ["question", "other_question", "many"]),
+    (counting, "count_rows", ["question", "many", "length"]),
+    (counting, "nth_row", ["question", "many", "length", "index"]),
+    (counting, "row_index", ["question", "many", "row"]),
+    (counting, "has_length", ["question", "many", "length"]),
+    (counting, "lengths_to", ["question", "many", "most"]),
+    (texts, "show_question", ["question"]),
+    (readings, "read_question", ["text"]),
+)
+
+METHODS = (
+    ("__init__", ["row", "other_row", "picks"]), ("pick", ["side", "place"]), ("answer", ["place"]),
+    ("undo", []), ("good_answers", []), ("story", []), ("__len__", []), ("__eq__", ["other"]),
 )
 
 
@@ -54,6 +68,25 @@ class InterfaceTest(unittest.TestCase):
         for name in ("PickError",) + NAMES_OF_ERRORS:
             told = inspect.signature(getattr(errors, name)).parameters
             self.assertEqual(list(told), ["value"])
+
+    def test_games(self):
+        for name, arguments in METHODS:
+            for made in (Game, EagerGame):
+                told = list(inspect.signature(getattr(made, name)).parameters)
+                self.assertEqual(told, ["self"] + arguments)
+            # Each method stands in the class itself for which the document lists it.
+            self.assertIn(name, vars(Game))
+        for name in ("__init__", "pick", "answer", "undo"):
+            self.assertIn(name, vars(EagerGame))
+        for name in ("picks_left", "parts", "can_last"):
+            self.assertIsInstance(vars(Game)[name], property)
+        for made in (Game, EagerGame):
+            self.assertEqual((made.__module__, made.__bases__[0]),
+                             (games.__name__, object if made == Game else Game))
+            game = made("ab", "ba", 1)
+            for name in ("picks_left", "parts", "can_last"):
+                with self.assertRaises(AttributeError):
+                    setattr(game, name, 1)
 
     def test_examples_of_the_readme(self):
         # The fences are no part of what an example prints.
